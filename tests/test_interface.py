@@ -1,0 +1,90 @@
+"""The section "The interface": what has landed exists under its name, with its arguments, in its own file."""
+
+import ast
+import importlib
+import inspect
+import pathlib
+import unittest
+
+import askedtrue
+
+FOLDER = pathlib.Path(askedtrue.__file__).parent
+FUNCTIONS = {
+    "orders": ["is_whole(thing)", "is_name(thing)"],
+    "ordertext": ["order_text(order)", "parse_order(text)"],
+    "worlds": ["is_entry(thing)", "true_run(order, world)", "false_ask(order, world, asks)",
+               "true_beat(order, world, asks, name)", "fresh_number(worlds, asks)"],
+    "turns": ["is_turn(net, way, beat)", "next_turn(net, way, beat)", "turns(net, way, last)", "hops(net, route, beat)",
+              "arrive(net, route, beat)"],
+    "nettext": ["net_text(net)", "parse_net(text)"],
+    "lots": ["touched(net, route)", "could(net, budgets, route)"],
+    "scripts": ["script_fault(net, budgets, script)", "spent(net, script)", "make_script(net, bad)",
+                "heard_as(script, way, beat, packet)"],
+    "plantext": ["plan_text(plan)", "parse_plan(text)"],
+    "times": ["paths(order, name)", "crossings(plan, path)", "path_time(plan, path)", "earliest(plan, name)", "latest(plan)"],
+    "ceilings": ["ceilings(plan)", "ceilings_fault(plan, marked)", "times_fault(plan, name, timed, marked)"],
+    "margins": ["inequalities(plan, deadlines)", "first_broken(rows, pairs)"],
+}
+GENERATORS = ["hops", "paths"]
+CLASSES = {
+    "orders": {"Event(name, end, kind, needs=())": [],
+               "Order(events)": ["event(name)", "place(name)", "of_end(end)", "foreign(name)", "behind(name)", "loose(name)",
+                                 "sources(name)", "as_kind(name, kind)", "key_of(name, values)", "property names",
+                                 "__iter__()", "__len__()"]},
+    "worlds": {"World(told=(), base=0, factor=0)": ["answer(name, key)", "with_entry(name, key, value)"]},
+    "nets": {"Way(source, goal, phase, delay, lot)": [],
+             "Net(ends, period, ways)": ["property is_tree", "route(start, goal)", "behind(way)", "ways_from(end)",
+                                         "ways_to(end)", "with_phases(phases)", "with_lots(lots)"]},
+    "lots": {"Budgets(pairs)": ["property total", "pair(lot)", "with_pair(lot, pair)", "covers(other)", "__iter__()",
+                                "__len__()"]},
+    "plans": {"Plan(order, net, budgets)": ["with_order(order)", "with_net(net)", "with_budgets(budgets)",
+                                            "route(one, other)", "could(one, other)", "touched(one, other)"]},
+    "times": {"Crossing(elder, name, ways, sure, last)": [], "Timed(beat, path, clean, held)": []},
+    "margins": {"Inequality(es, fs, room, path)": []},
+}
+
+
+def written(name, thing, skip=0):
+    """The name and the parameters of a function as the interface writes them."""
+    parameters = list(inspect.signature(thing).parameters.values())[skip:]
+    return f"{name}({', '.join(map(str, parameters))})"
+
+
+def defined(module):
+    """The names of all functions and classes that the file itself defines."""
+    tree = ast.parse((FOLDER / f"{module}.py").read_text(encoding="utf-8"))
+    return [node.name for node in tree.body if isinstance(node, (ast.FunctionDef, ast.ClassDef))]
+
+
+class Interface(unittest.TestCase):
+    def test_functions(self):
+        for module, rows in FUNCTIONS.items():
+            for row in rows:
+                name = row.partition("(")[0]
+                self.assertIn(name, defined(module))
+                function = getattr(importlib.import_module(f"askedtrue.{module}"), name)
+                self.assertEqual(written(name, function), row)
+                self.assertEqual(inspect.isgeneratorfunction(function), name in GENERATORS)
+
+    def test_classes(self):
+        for module, rows in CLASSES.items():
+            for row, methods in rows.items():
+                name = row.partition("(")[0]
+                self.assertIn(name, defined(module))
+                made = getattr(importlib.import_module(f"askedtrue.{module}"), name)
+                self.assertEqual(written(name, made), row)
+                self.assertIn("__eq__", vars(made))
+                for method in methods:
+                    self.check_method(made, method)
+
+    def check_method(self, made, method):
+        word, _, name = method.partition(" ")
+        if word == "property":
+            self.assertIsInstance(vars(made)[name], property)
+        else:
+            name = method.partition("(")[0]
+            self.assertEqual(written(name, vars(made)[name], skip=1), method)
+
+
+if __name__ == "__main__":
+    unittest.main()
