@@ -17,7 +17,7 @@ class BadOrder(AskedError):
     """An order of events, or the name of an event in it, is refused."""
 
     def __init__(self, what, name):
-        AskedError.__init__(self, what, name)
+        self.told = (what, name)
         self.what = what
         self.name = name
 
@@ -26,7 +26,7 @@ class BadText(AskedError):
     """A text is wrong in this row, counted from 0."""
 
     def __init__(self, row):
-        AskedError.__init__(self, row)
+        self.told = (row,)
         self.row = row
 
 
@@ -34,7 +34,7 @@ class BadWorld(AskedError):
     """A world is refused."""
 
     def __init__(self, what):
-        AskedError.__init__(self, what)
+        self.told = (what,)
         self.what = what
 
 
@@ -42,7 +42,7 @@ class BadNet(AskedError):
     """A net, or an end, a way, a route or a beat in it, is refused."""
 
     def __init__(self, what, at):
-        AskedError.__init__(self, what, at)
+        self.told = (what, at)
         self.what = what
         self.at = at
 
@@ -51,7 +51,7 @@ class BadLots(AskedError):
     """Budgets, or a lot of them, are refused."""
 
     def __init__(self, what, at):
-        AskedError.__init__(self, what, at)
+        self.told = (what, at)
         self.what = what
         self.at = at
 
@@ -60,7 +60,7 @@ class BadScript(AskedError):
     """A script of bad packets is refused."""
 
     def __init__(self, what, at):
-        AskedError.__init__(self, what, at)
+        self.told = (what, at)
         self.what = what
         self.at = at
 
@@ -69,7 +69,7 @@ class BadPlan(AskedError):
     """An order, a net and budgets do not go together."""
 
     def __init__(self, what):
-        AskedError.__init__(self, what)
+        self.told = (what,)
         self.what = what
 
 
@@ -77,7 +77,7 @@ class BadPath(AskedError):
     """A sequence of names is no path; None stands for the whole."""
 
     def __init__(self, at):
-        AskedError.__init__(self, at)
+        self.told = (at,)
         self.at = at
 
 
@@ -85,7 +85,7 @@ class BadDeadline(AskedError):
     """Deadlines are refused; None stands for the whole."""
 
     def __init__(self, at):
-        AskedError.__init__(self, at)
+        self.told = (at,)
         self.at = at
 
 
@@ -93,7 +93,7 @@ class BadMargin(AskedError):
     """What a margin is asked for is refused."""
 
     def __init__(self, what):
-        AskedError.__init__(self, what)
+        self.told = (what,)
         self.what = what
 
 
@@ -101,7 +101,7 @@ class BadProgram(AskedError):
     """A program told what no program may tell."""
 
     def __init__(self, end, beat):
-        AskedError.__init__(self, end, beat)
+        self.told = (end, beat)
         self.end = end
         self.beat = beat
 
@@ -110,7 +110,7 @@ class BadFoe(AskedError):
     """There is no foe of this event."""
 
     def __init__(self, what):
-        AskedError.__init__(self, what)
+        self.told = (what,)
         self.what = what
 
 
@@ -118,7 +118,7 @@ class BadRounds(AskedError):
     """An endless order, or a thing that it is asked for, is refused."""
 
     def __init__(self, what, name):
-        AskedError.__init__(self, what, name)
+        self.told = (what, name)
         self.what = what
         self.name = name
 
@@ -127,7 +127,7 @@ class BadChecks(AskedError):
     """Checks, or what they are chosen by, are refused."""
 
     def __init__(self, what):
-        AskedError.__init__(self, what)
+        self.told = (what,)
         self.what = what
 
 
@@ -135,7 +135,7 @@ class BadWeather(AskedError):
     """A weather, or a thing that it is asked for, is refused."""
 
     def __init__(self, what):
-        AskedError.__init__(self, what)
+        self.told = (what,)
         self.what = what
 
 
@@ -143,7 +143,7 @@ class BadStream(AskedError):
     """A stream, or a thing that it is asked for, is refused."""
 
     def __init__(self, what):
-        AskedError.__init__(self, what)
+        self.told = (what,)
         self.what = what
 
 
@@ -151,7 +151,7 @@ class BadRing(AskedError):
     """A net with rings, or a thing that it is asked for, is refused."""
 
     def __init__(self, what):
-        AskedError.__init__(self, what)
+        self.told = (what,)
         self.what = what
 
 
@@ -159,7 +159,7 @@ class BadDeed(AskedError):
     """A desk does not take this deed."""
 
     def __init__(self, what):
-        AskedError.__init__(self, what)
+        self.told = (what,)
         self.what = what
 
 
@@ -167,4 +167,4 @@ class NoDeed(AskedError):
     """No deed of a desk stands that could be taken back."""
 
     def __init__(self):
-        AskedError.__init__(self)
+        self.told = ()
