@@ -59,7 +59,7 @@ class Hunt:
         self.world = self.new_values([self.world], name)[0]
 
     def pass_query(self, passage):
-        """What two runs a passage into a query has: (world, script, run) of both."""
+        """The two sides (world, script, run) of a passage into a query."""
         elder = passage.crossing.elder
         second = self.new_values([self.world], elder)[0]
         key = self.true_key(second, elder)
@@ -68,17 +68,15 @@ class Hunt:
         twin = self.script + lost
         # The second run hangs on nothing that the first world tells of the elder event: so it is made
         # first, and the first world tells what is not asked in it.
-        second_run = self.whole_run(second, twin)
+        told = self.whole_run(second, twin)
         world = self.new_keys([second.with_entry(elder, key, self.fresh())], elder)[0]
-        bad = [bad_packet(turn, second_run) for turn in passage.held]
-        script = (*self.script, *bad)
-        sides = [(world, script, self.whole_run(world, script)), (world.with_entry(elder, key, value), twin, second_run)]
+        other = world.with_entry(elder, key, value)
         self.world = world
-        self.script = script
-        return sides
+        self.script = (*self.script, *[bad_packet(turn, told) for turn in passage.held])
+        return [(world, self.script, self.whole_run(world, self.script)), (other, twin, told)]
 
     def pass_action(self, passage):
-        """What two runs a passage into an action has: (world, script, run) of both."""
+        """The two sides (world, script, run) of a passage into an action."""
         world, other = self.new_values([self.world, self.world], passage.crossing.elder)
         script = self.script
         twin = self.script

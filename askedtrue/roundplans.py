@@ -51,11 +51,14 @@ def round_times(roundplan, last):
     if not is_between(last, 0, LAST_TIMED):
         raise BadRounds("last", None)
     marks = {}
+    times = []
     for number in range(last + 1):
+        beats = []
         for name in roundplan.rounds.names:
             marks[name, number] = round_marks(roundplan, marks, name, number)
-    return tuple([tuple([greatest_height(roundplan, marks[name, number]) for name in roundplan.rounds.names])
-                  for number in range(last + 1)])
+            beats.append(greatest_height(roundplan, marks[name, number]))
+        times.append(tuple(beats))
+    return tuple(times)
 
 
 def round_marks(roundplan, marks, name, number):

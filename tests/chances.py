@@ -1,10 +1,15 @@
-"""Scripts, copies and runs by chance."""
+"""Scripts, copies, rounds and more by chance."""
+
+import random
 
 from askedtrue.lots import could
+from askedtrue.roundplans import RoundPlan
+from askedtrue.rounds import RoundEvent, Rounds
 from askedtrue.scripts import make_script
 from askedtrue.times import earliest
 from askedtrue.turns import turns
 from askedtrue.worlds import World
+from tests.helpers import chance_plans
 
 
 def chance_world(chance):
@@ -62,3 +67,21 @@ def is_small(plan):
 def last_time(plan):
     """The greatest earliest time of the plan's events."""
     return max([earliest(plan, name).beat for name in plan.order.names], default=0)
+
+
+def chance_rounds(chance, many, ends):
+    """Rounds of so many events at any of these ends."""
+    names = chance.sample(["a", "b", "cc", "xyz", "rounds", "q", "z"], many)
+    events = []
+    for at, name in enumerate(names):
+        choices = [(other, 0) for other in names[:at]] + [(other, 1) for other in names]
+        needs = chance.sample(choices, min(len(choices), chance.randint(0, 3)))
+        events.append(RoundEvent(name, chance.randint(1, ends), chance.choice(("query", "action")), tuple(needs)))
+    return Rounds(events)
+
+
+def chance_round_plans(seed, many, most=6):
+    """So many RoundPlans by chance, the same ones for the same seed."""
+    chance = random.Random(seed)
+    for plan in chance_plans(seed, many, 0):
+        yield RoundPlan(chance_rounds(chance, chance.randint(0, most), plan.net.ends), plan.net, plan.budgets)
