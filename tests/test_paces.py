@@ -184,6 +184,8 @@ class PaceFault(Case):
         # From a at rest 0 to b it takes 3 beats, at rest 1 it takes 2; both end at rest 1.
         self.assertIsNone(pace_fault(plan, Pace(0, 1, (), ((0, 0), (-BIG, 3)))))
         self.assertIsNone(pace_fault(plan, Pace(0, 1, (), ((-1, 0), (-BIG, 2)))))
+        for thing in (None, True, "3", 3.0, (3,)):
+            self.assertEqual(pace_fault(plan, Pace(0, 1, (), ((0, 0), (thing, 3)))), "potentials")
         self.assertEqual(pace_fault(plan, Pace(0, 1, (), ((0, 0), (BIG, 2)))), "potentials")
         self.assertEqual(pace_fault(plan, Pace(0, 1, (), ((-1, 1), (BIG, 2)))), "potentials")
 

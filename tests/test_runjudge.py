@@ -10,6 +10,7 @@ from askedtrue.orders import Event, Order
 from askedtrue.plans import Plan
 from askedtrue.runjudge import Beyond, Right, Wrong, judge_run, run_fault
 from askedtrue.runner import Run, run
+from askedtrue.same import is_same
 from askedtrue.tellers import teller
 from askedtrue.worlds import World
 from tests.chances import chance_script, chance_world
@@ -39,6 +40,7 @@ class RunFault(Case):
     def test_right(self):
         self.assertIsNone(fault())
         self.assertIsNone(fault(script=list(SCRIPT)))
+        self.assertIsNone(fault(sent=list(SENT), heard=list(HEARD), asks=list(ASKS)))
         self.assertIsNone(run_fault(NET, ORDER, WORLD, (), Run(0, (), (), ())))
         self.assertIsNone(run_fault(Net(1, 1, ()), Order(()), World(), (), Run(80, (), (), ())))
 
@@ -124,6 +126,18 @@ class RunFault(Case):
         order = Order([Event("z", 5, "query")])
         told = Run(0, (), (), ((0, 5, "z", (), 0),))
         self.assertEqual(run_fault(NET, order, World(), (), told), "asks")
+
+
+class Same(Case):
+    def test_is_same(self):
+        things = [0, 1, False, True, None, "", "1", (), (1,), (True,), [1], [True], (1, (0,)), (1, (False,)), (1, [0]), {"a": 1}, object()]
+        for at, one in enumerate(things):
+            for place, other in enumerate(things):
+                self.assertIs(is_same(one, other), at == place, (one, other))
+        self.assertIs(is_same((1, ("a", None)), (1, ("a", None))), True)
+        self.assertIs(is_same((1, 2), (1, 2, 3)), False)
+        odd = float("nan")
+        self.assertIs(is_same((odd,), (odd,)), True)
 
 
 class JudgeRun(Case):
