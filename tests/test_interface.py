@@ -42,6 +42,15 @@ FUNCTIONS = {
     "paces": ["pace(roundplan)", "pace_fault(roundplan, told)", "round_bound(roundplan, told, name, number)"],
     "checks": ["with_checks(plan, lots)", "late_path(plan, deadlines, lots)", "cheapest(plan, deadlines, prices)",
                "checks_fault(plan, deadlines, prices, told)", "worth(plan, name, prices)"],
+    "weatherkinds": ["count_weather(most, mark)", "window_weather(length, most, mark)", "burst_weather(longest, gap, mark)",
+                     "both(one, other)", "either(one, other)"],
+    "watchers": ["listen(receiver, heard)", "watching(weather)", "asking()"],
+    "holds": ["held_rows(weather, turn, kind, turns)", "hold(weather, turn, kind)", "hold_fault(weather, turn, kind, told)",
+              "joint_states(weather, turn, kind)", "heights(weather, kind)", "worst_hold(weather, kind)"],
+    "twins": ["mislead(receiver, weather, turn, turns, values)", "starve(receiver, weather, turn, turns)"],
+    "wholes": ["whole_solutions(rows, rights, wide)"],
+    "streams": ["encode(width, values)", "least_unlike(width, count)", "unlike(width, count)",
+                "enough(width, corrupted, lost)", "confusion(width, count, corrupted, lost)"],
 }
 GENERATORS = ["hops", "paths"]
 CLASSES = {
@@ -74,6 +83,13 @@ CLASSES = {
     "roundplans": {"RoundPlan(rounds, net, budgets)": ["plan(many)", "with_budgets(budgets)"]},
     "paces": {"Pace(beats, rounds, circuit, potentials)": []},
     "checks": {"Checked(lots, price, bars)": [], "Never(path)": []},
+    "weathers": {"Weather(states, steps)": ["can_be(row)", "each_row(count)"]},
+    "watchers": {"Watcher(weather, heard=())": ["hear(packet)", "sure_value()", "may_be_untold()", "fits()",
+                                                "possible_values()"]},
+    "holds": {"Held(turns, rows)": [], "Endless(rows, rings)": []},
+    "twins": {"Misled(word, rows, heard, turn, value, side)": [], "Starved(row, heard, value)": []},
+    "wholes": {"Solutions(point, moves)": []},
+    "streams": {"Coder(width, stream=())": ["put(value)", "packets()"], "Confused(first, second, heard)": []},
 }
 
 
