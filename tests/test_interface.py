@@ -51,6 +51,16 @@ FUNCTIONS = {
     "wholes": ["whole_solutions(rows, rights, wide)"],
     "streams": ["encode(width, values)", "least_unlike(width, count)", "unlike(width, count)",
                 "enough(width, corrupted, lost)", "confusion(width, count, corrupted, lost)"],
+    "surestreams": ["fits_stream(width, heard, values, corrupted)", "sure_places(width, heard, corrupted)",
+                    "rivals(width, heard, corrupted, place)", "sure_under(width, heard, weather)"],
+    "flows": ["heard_by(net, start, beat, bad=())", "many(net, start, goal, beat, count)",
+              "many_fault(net, start, goal, beat, count, told)", "cut(net, start, goal, beat, until)",
+              "cut_fault(net, start, goal, beat, until, told)"],
+    "ringplans": ["ring_time(plan, name)", "ring_time_fault(plan, name, told)"],
+    "flooding": ["flooder(plan)"],
+    "cutfoes": ["cut_foe(plan, name, program)"],
+    "storytext": ["story_text(story)", "parse_story(text)"],
+    "desk": ["retell_story(story)"],
 }
 GENERATORS = ["hops", "paths"]
 CLASSES = {
@@ -90,6 +100,10 @@ CLASSES = {
     "twins": {"Misled(word, rows, heard, turn, value, side)": [], "Starved(row, heard, value)": []},
     "wholes": {"Solutions(point, moves)": []},
     "streams": {"Coder(width, stream=())": ["put(value)", "packets()"], "Confused(first, second, heard)": []},
+    "flows": {"Many(beat, flows)": []},
+    "ringplans": {"RingPlan(order, net, bad, corrupted=True)": [], "RingTime(beat, chain, dealt)": []},
+    "stories": {"Story(plan, deeds)": []},
+    "desk": {"Desk(plan)": ["times()", "verdict()", "missed()", "take_deed(deed)", "tell_story()", "tried(call)"]},
 }
 
 
