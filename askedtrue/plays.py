@@ -37,20 +37,14 @@ def keys_out(order, end, own, answers):
     answers of each other end from which these values come. So what is not told apart is played once.
     """
     keys = {name: {} for name in order.of_end(end)}
-    # The empty answers are those of the choice of no copy.
-    plays = [({}, {other: [{}, *told] for other, told in answers.items()})]
+    # The empty answers are those of the choice of no copy; of the own end there is one choice.
+    choices = {other: [{}, *told] for other, told in answers.items()}
+    plays = [({}, {**choices, end: [own]})]
     for event in needed_events(order, end):
-        rest = []
-        for values, left in plays:
-            key = order.key_of(event.name, values)
-            if key is None:
-                rest.append((values, left))
-            elif event.end == end:
-                keys[event.name][key] = True
-                rest.append((with_value(values, event.name, own.get((event.name, key))), left))
-            else:
-                rest.extend(parted(event, key, values, left))
-        plays = rest
+        keyed = [(order.key_of(event.name, values), values, left) for values, left in plays]
+        if event.end == end:
+            keys[event.name] = {key: True for key, _, _ in keyed if key is not None}
+        plays = [part for key, values, left in keyed for part in parted(event, key, values, left)]
     return keys
 
 
@@ -64,13 +58,14 @@ def needed_events(order, end):
 
 
 def parted(event, key, values, left):
-    """The plays into which the answers of the event's end part by what they tell of it."""
-    parts = {}
-    for told in left.get(event.end, []):
-        parts.setdefault(told.get((event.name, key)), []).append(told)
-    if not parts:
+    """The plays into which a play parts by what the answers of the event's end tell of this key, if it came out."""
+    answers = left.get(event.end, [])
+    if key is None or not answers:
         return [(values, left)]
-    return [(with_value(values, event.name, value), {**left, event.end: part}) for value, part in parts.items()]
+    told = [one.get((event.name, key)) for one in answers]
+    unlike = {value: True for value in told}
+    return [(with_value(values, event.name, value),
+             {**left, event.end: [one for one, other in zip(answers, told) if other == value]}) for value in unlike]
 
 
 def with_value(values, name, value):

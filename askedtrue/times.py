@@ -121,7 +121,7 @@ def greatest_marks(plan):
         sources = plan.order.sources(event.name)
         beats = {} if sources else {(): 0}
         for source in sources:
-            for mark in found[source].items():
+            for mark in list(found[source].items()):
                 lots, beat = moved_mark(plan, mark, source, event.name)
                 beats[lots] = max(beat, beats.get(lots, 0))
         found[event.name] = beats
