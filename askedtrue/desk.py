@@ -258,7 +258,7 @@ def tuples_of(thing):
 def retell_story(story):
     """The desk of this story."""
     desk = Desk(story.plan)
-    for deed in story.deeds:
+    for deed in list(story.deeds):
         if is_deed(deed) and deed[0] == "back":
             raise BadDeed("deed")
         desk.take_deed(deed)

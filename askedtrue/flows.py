@@ -118,7 +118,7 @@ def many_fault(net, start, goal, beat, count, told):
 
 def is_flow(net, start, goal, beat, last, thing):
     """Whether the thing is a flow from start behind the beat to goal that arrives by the last beat."""
-    if not are_places(net, thing) or len(thing) == 0:
+    if not are_places(net, thing):
         return False
     end, heard = start, beat
     for number, turn in thing:

@@ -1,8 +1,8 @@
 """Twins: for any receiver, a run in which it asks what is false, or is not sooner than the hold lets."""
 
 from askedtrue.errors import BadWeather
-from askedtrue.holds import LAST_TURN, held_rows
-from askedtrue.orders import is_between, is_sequence, is_whole
+from askedtrue.holds import held_rows
+from askedtrue.orders import is_sequence, is_whole
 from askedtrue.watchers import listen
 
 
@@ -60,10 +60,6 @@ def starve(receiver, weather, turn, turns):
 
 def rows_for(weather, turn, kind, turns):
     """Held rows with so many held turns; raises BadWeather if there are none."""
-    if not is_between(turn, 0, LAST_TURN):
-        raise BadWeather("turn")
-    if not is_between(turns, 0, LAST_TURN):
-        raise BadWeather("turns")
     rows = held_rows(weather, turn, kind, turns)
     if rows is None:
         raise BadWeather("turns")

@@ -74,7 +74,7 @@ class Watcher:
 
     def sure_value(self):
         """The value that is sure, or None."""
-        if self._guess.untold or self._guess.other:
+        if self.may_be_untold():
             return None
         values = self.possible_values()
         return values[0] if len(values) == 1 else None
@@ -85,7 +85,8 @@ class Watcher:
 
     def fits(self):
         """Whether any telling fits."""
-        return self.may_be_untold() or self._guess.other != () or self.possible_values() != ()
+        # Where a value that was not heard can be told, no packet is clean since, so that nothing need be told.
+        return self.may_be_untold() or self.possible_values() != ()
 
     def possible_values(self):
         """The values heard that can have been told already, ascending."""

@@ -31,7 +31,7 @@ def plus(row, other, times):
 
 def whole_solutions(rows, rights, wide):
     """All solutions of the equations in so many whole numbers, or None if there are none."""
-    levers = [Lever(tuple([int(at == place) for at in range(wide)]), tuple([row[place] for row in rows]))
+    levers = [Lever(tuple([int(other == place) for other in range(wide)]), tuple([row[place] for row in rows]))
               for place in range(wide)]
     point = (0,) * wide
     left = tuple(rights)

@@ -32,6 +32,19 @@ def chance_ring(chance, most_ends=4, more=4, most_delay=1, most_period=2):
     return Net(ends, period, ways)
 
 
+def chance_layers(chance):
+    """A net whose ways lead on from end to end, and its first and last end: here flows get in one another's way."""
+    period = chance.randint(2, 6)
+    ends = chance.randint(3, 5)
+    names = chance.sample(range(1, ends + 1), ends)
+    ways = []
+    for _ in range(chance.randint(6, 12)):
+        at = chance.randint(0, ends - 2)
+        goal = chance.randint(at + 1, min(ends - 1, at + 2))
+        ways.append(Way(names[at], names[goal], chance.randrange(period), chance.choice((0, 0, 1, 3, 6)), 0))
+    return Net(ends, period, ways), names[0], names[-1]
+
+
 def places_until(net, beat, until):
     """All packet places behind the beat whose packets are heard by then."""
     return [(number, turn) for turn in range(beat + 1, until + 1) for number, way in enumerate(net.ways)

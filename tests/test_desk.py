@@ -172,6 +172,7 @@ class WrongDeeds(DeskCase):
         for name in ("z", None, 0):
             self.assert_refused(BadOrder("unknown", name), desk, ("foe", name))
         self.assert_refused(BadFoe("zero"), desk, ("foe", "a"))
+        self.assert_refused(BadOrder("unknown", "back"), desk, ("foe", "back"))
 
     def test_go_on(self):
         desk = Desk(PLAN)
@@ -443,6 +444,7 @@ class Stories(DeskCase):
         self.assert_raises(BadDeed("deed"), retell_story, Story(PLAN, (("back",),)))
         self.assert_raises(BadDeed("deed"), retell_story, Story(PLAN, (("odd",),)))
         self.assert_raises(BadDeed("deed"), retell_story, Story(PLAN, (None,)))
+        self.assert_raises(BadOrder("unknown", "back"), retell_story, Story(PLAN, (("foe", "back"),)))
         self.assert_raises(BadDeed("beats"), retell_story, Story(PLAN, (("go on", 0), ("back",))))
         self.assert_raises(BadDeed("running"), retell_story, Story(PLAN, (("go on", 1), ("world", 1, 1))))
 

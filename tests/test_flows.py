@@ -7,7 +7,7 @@ from askedtrue.errors import BadRing
 from askedtrue.flows import Many, cut, cut_fault, heard_by, many, many_fault
 from askedtrue.nets import Net, Way
 from tests.helpers import Case, line, two_ends
-from tests.rings import all_flows, chance_net, chance_ring, most_apart, places_until, plain_heard, plain_most
+from tests.rings import all_flows, chance_layers, chance_net, chance_ring, most_apart, places_until, plain_heard, plain_most
 
 RING = Net(3, 2, [Way(1, 2, 0, 0, 0), Way(2, 3, 1, 1, 0), Way(3, 1, 0, 2, 1), Way(1, 3, 1, 3, 2), Way(1, 2, 1, 4, 3)])
 ENDS_WRONG = (0, 4, -1, True, False, None, "1")
@@ -85,6 +85,29 @@ class ManyFlows(Case):
         told = many(net, 1, 4, 0, 2)
         self.assert_same(told.beat, 4)
         self.check(net, 1, 4, 0, 2, told)
+
+    def test_a_flow_that_must_not_wait(self):
+        # The first flow alone is soonest if it waits for the quick way, by which the second one must go.
+        for start, between, goal in itertools.permutations((1, 2, 3)):
+            net = Net(3, 6, [Way(start, between, 1, 0, 0), Way(start, between, 2, 0, 0), Way(between, goal, 3, 0, 0),
+                             Way(between, goal, 2, 5, 0)])
+            self.assert_same(many(net, start, goal, 0, 1).beat, 3)
+            told = many(net, start, goal, 0, 2)
+            self.assert_same(told.beat, 7)
+            self.check(net, start, goal, 0, 2, told)
+            self.assert_same(len(cut(net, start, goal, 0, 7)), 2)
+
+    def test_flows_that_get_in_one_another_s_way(self):
+        chance = random.Random(187)
+        for _ in range(500):
+            net, start, goal = chance_layers(chance)
+            if heard_by(net, start, 0)[goal - 1] is None:
+                continue
+            for count in (2, 4, 6):
+                told = many(net, start, goal, 0, count)
+                self.check(net, start, goal, 0, count, told)
+                self.assertGreaterEqual(plain_most(net, start, goal, 0, told.beat), count)
+                self.assertLess(plain_most(net, start, goal, 0, told.beat - 1), count)
 
     def test_against_all_flows(self):
         chance = random.Random(182)

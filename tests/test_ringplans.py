@@ -40,6 +40,11 @@ class RingPlans(Case):
         self.assert_raises(BadRing("end"), RingPlan, far, apart, 0)
         self.assert_raises(BadRing("apart"), RingPlan, ACTION, apart, 0)
         self.assert_raises(BadRing("apart"), RingPlan, ACTION, Net(2, 1, ()), 8, False)
+        # From one end alone, the first or the last one, no ways lead to the others.
+        for lone, one, other in ((1, 2, 3), (3, 1, 2)):
+            pairs = ((one, other), (other, one), (one, lone))
+            net = Net(3, 1, [Way(source, goal, 0, 0, 0) for source, goal in pairs])
+            self.assert_raises(BadRing("apart"), RingPlan, ACTION, net, 8, False)
         self.assert_raises(BadRing("action"), RingPlan, ACTION, RING, 0)
         self.assert_raises(BadRing("action"), RingPlan, Order([Event("a", 1, "action")]), ONE, 0, True)
 

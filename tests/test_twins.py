@@ -129,7 +129,7 @@ class Mislead(Case):
             self.assert_raises(BadWeather("turns"), starve, silent, ALL, 0, turns)
         self.assert_raises(BadWeather("turns"), mislead, silent, CLEAN, 0, 1, None)
         self.assert_raises(BadWeather("turns"), starve, silent, CLEAN, 0, 1)
-        for values in (None, 1, (), (1,), (1, 1), (1, 2, 3), (1, True), (None, 2), (0, False), "12", {1: 2, 2: 3}):
+        for values in (None, 1, (), (1,), (1, 1), (1, 2, 3), (1, True), (5, True), (5, None), (None, 2), (0, False), "12", {1: 2, 2: 3}):
             self.assert_raises(BadWeather("values"), mislead, silent, ALL, 0, 1, values)
 
     def test_results(self):

@@ -43,7 +43,7 @@ class Weathers(Case):
         right = (0, "clean", 0)
         for steps in (None, 7, "steps", {right: 1}, {right}):
             self.assert_raises(BadWeather("steps"), Weather, 1, steps)
-        for step in (None, 5, "abc", (), right[:2], (*right, 0), (1, "clean", 0), (-1, "clean", 0), (0, "clean", 1),
+        for step in (None, 5, "abc", (), right[:2], (*right, 0), (1, "clean", 0), (-1, "clean", 0), (0, "clean", -1), (0, "clean", 1),
                      (0, "Clean", 0), (0, None, 0), (0, ["clean"], 0), (False, "clean", 0), (0, "clean", False),
                      ("0", "clean", 0), (0, "clean", None), (True, "lost", 0), {0: 1}):
             self.assert_raises(BadWeather("steps"), Weather, 1, [right, step])
@@ -75,6 +75,11 @@ class Rows(Case):
         self.assertIs(weather.can_be(("clean", "lost")), False)
         self.assert_same(list(weather.each_row(0)), [()])
         self.assert_same(list(weather.each_row(2)), [("clean", "clean")])
+
+    def test_what_is_no_mark(self):
+        weather = Weather(1, [(0, "clean", 0)])
+        for mark in ("bad", None, 0, ["clean"], "Clean"):
+            self.assertIs(weather.can_be(["clean", mark]), False)
 
     def test_several_steps_with_one_mark(self):
         weather = Weather(3, [(0, "clean", 1), (0, "clean", 2), (1, "lost", 1), (2, "corrupted", 2)])
